@@ -1,0 +1,1 @@
+"""Offerlists: waiting lists whose offers run out, for all histories."""
