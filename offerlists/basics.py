@@ -1,4 +1,4 @@
-"""What counts as an integer, a name or a lot, in whatever is passed."""
+"""What counts as an integer, a pair, a name or a lot, in whatever is passed."""
 
 from offerlists.limits import MOST_KINDS
 
@@ -7,12 +7,20 @@ LETTERS = "abcdefghijklmnopqrstuvwxyz"
 LETTERS_AND_DIGITS = "abcdefghijklmnopqrstuvwxyz0123456789"
 
 
+def is_integer(value):
+    """Whether a value is an integer."""
+    # True and False are of the class int for Python, but no integers here.
+    return isinstance(value, int) and not isinstance(value, bool)
+
+
 def is_number(value, least, most):
     """Whether a value is an integer from least to most."""
-    # True and False are of the class int for Python, but no integers here.
-    if isinstance(value, bool) or not isinstance(value, int):
-        return False
-    return least <= value <= most
+    return is_integer(value) and least <= value <= most
+
+
+def is_pair(value):
+    """Whether a value is a tuple of two elements."""
+    return isinstance(value, tuple) and len(value) == 2
 
 
 def is_name(value):
@@ -35,6 +43,28 @@ def is_lot(value):
 def lot_order(lot):
     """What lots are sorted by: a shorter lot stands ahead of a longer one."""
     return (len(lot), lot)
+
+
+def lots_of(kinds):
+    """All lots of these kinds, which are ascending, in the order of lots."""
+    lots = [()]
+    for kind in kinds:
+        lots = lots + [(*lot, kind) for lot in lots]
+    # The empty tuple, which they grow from, is no lot.
+    return sorted(lots[1:], key=lot_order)
+
+
+def wrong_pair(pairs, most):
+    """The index of the first element that is not right where it stands, None if all are.
+
+    Right are pairs of a name, greater than the one before, and an integer from 1 to most.
+    """
+    for at, pair in enumerate(pairs):
+        if not is_pair(pair) or not is_name(pair[0]) or not is_number(pair[1], 1, most):
+            return at
+        if at > 0 and pair[0] <= pairs[at - 1][0]:
+            return at
+    return None
 
 
 def read_number(word, least, most):

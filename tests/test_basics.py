@@ -3,13 +3,20 @@
 import itertools
 import unittest
 
-from offerlists.basics import is_lot, is_name, is_number, lot_order, read_number
+from offerlists.basics import (
+    is_integer, is_lot, is_name, is_number, is_pair, lot_order, lots_of, read_number, wrong_pair,
+)
 from offerlists.houses import House
 
 OTHERS = (None, True, False, 0, 3, (), ("a", 1), ("a", None), [], ["flat"], {}, {"flat": 1}, b"flat", House(1, 1))
 
 
 class Numbers(unittest.TestCase):
+    def test_integers(self):
+        self.assertTrue(all(is_integer(value) for value in (0, 1, -1, 10 ** 39, -10 ** 39)))
+        for value in (None, True, False, "1", b"1", (1,), [1], {1: 1}, House(1, 1)):
+            self.assertFalse(is_integer(value), value)
+
     def test_bounds(self):
         self.assertEqual([n for n in range(-3, 12) if is_number(n, 1, 9)], list(range(1, 10)))
         self.assertTrue(is_number(0, 0, 12))
@@ -83,6 +90,29 @@ class Lots(unittest.TestCase):
         self.assertEqual(sorted(lots, key=lot_order), [
             ("a",), ("ab",), ("c",), ("a", "c"), ("a", "z"), ("b", "c"), ("a", "b", "c"),
         ])
+
+    def test_all_lots_of_some_kinds(self):
+        self.assertEqual(lots_of(("a",)), [("a",)])
+        self.assertEqual(lots_of(("a", "b", "c")), [
+            ("a",), ("b",), ("c",), ("a", "b"), ("a", "c"), ("b", "c"), ("a", "b", "c"),
+        ])
+        kinds = ("a", "b", "c", "d")
+        every = [lot for length in range(1, 5) for lot in itertools.combinations(kinds, length)]
+        self.assertEqual(lots_of(kinds), every)
+
+
+class Pairs(unittest.TestCase):
+    def test_pairs(self):
+        self.assertTrue(is_pair((1, 2)) and is_pair((None, ())))
+        for value in OTHERS + ((1,), (1, 2, 3), [1, 2], {1: 1, 2: 2}, "ab", b"ab"):
+            self.assertEqual(is_pair(value), value in (("a", 1), ("a", None)), value)
+
+    def test_the_first_that_is_not_right(self):
+        self.assertIsNone(wrong_pair((), 9))
+        self.assertIsNone(wrong_pair((("a", 1), ("b", 9), ("b0", 1)), 9))
+        for index, pairs in ((0, (("a", 0),)), (0, (("a", 10), None)), (1, (("a", 1), ("a", 1))), (1, (("b", 1), ("a", 0))),
+                             (2, (("a", 1), ("c", 1), ("b", 1))), (1, (("a", 9), ("B", 9))), (0, (None,)), (0, ((1, "a"),))):
+            self.assertEqual(wrong_pair(pairs, 9), index, pairs)
 
 
 if __name__ == "__main__":

@@ -147,6 +147,14 @@ def faults(text):
     return found + list(of_text(text)) + list(of_module(tree))
 
 
+def of_classes(tree):
+    """The names of methods and properties, and those of the attributes that are assigned: L5, L18."""
+    classes = [node for node in ast.walk(tree) if isinstance(node, ast.ClassDef)]
+    methods = {part.name for node in classes for part in node.body if isinstance(part, ast.FunctionDef)}
+    attributes = {node.attr for node in ast.walk(tree) if isinstance(node, ast.Attribute) and isinstance(node.ctx, ast.Store)}
+    return methods, attributes
+
+
 class Language(unittest.TestCase):
     def test_the_folder_holds_files_of_python_alone(self):
         for path in FILES:
@@ -162,6 +170,16 @@ class Language(unittest.TestCase):
             if path.suffix == ".py":
                 with self.subTest(path=path.name):
                     self.assertEqual(faults(path.read_text(encoding="utf-8")), [])
+
+    def test_no_name_is_a_method_and_an_attribute(self):
+        methods, attributes = set(), set()
+        for path in FILES:
+            if path.suffix == ".py":
+                more = of_classes(ast.parse(path.read_text(encoding="utf-8")))
+                methods, attributes = methods | more[0], attributes | more[1]
+        self.assertLess({"read", "wave", "weaker", "led"}, methods)
+        self.assertLess({"given", "_wave"}, attributes)
+        self.assertEqual(sorted(methods & attributes), [])
 
     def test_faults_are_seen(self):
         for text in (
