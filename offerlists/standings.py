@@ -1,8 +1,8 @@
 """Standings: what an entry wishes, and what is known of those ahead of it."""
 
-from offerlists.errors import InvalidLot, InvalidNumber, InvalidRows, InvalidText, NotAStanding
+from offerlists.errors import InvalidLot, InvalidNumber, InvalidRows, InvalidText, NotAStanding, Unwished
 from offerlists.limits import MOST_AHEAD, MOST_KINDS
-from offerlists.basics import is_lot, is_number, is_pair, lot_order, read_number, wrong_pair
+from offerlists.basics import is_lot, is_name, is_number, is_pair, lot_order, read_number, wrong_pair
 from offerlists.checks import check_lot
 
 NOT_MADE = "only the classes under this one are made"
@@ -53,6 +53,11 @@ class ByWishes(Standing):
         """How many are ahead."""
         return self._ahead
 
+    @property
+    def rows(self):
+        """The pairs of a lot and how many ahead have it as their wishes."""
+        return self._rows
+
     def bar(self, lot):
         """How many ahead wish one of these kinds of the wishes."""
         check_wished(lot, self._wishes)
@@ -94,6 +99,11 @@ class ByKinds(Standing):
     def ahead(self):
         """How many are ahead."""
         return self._ahead
+
+    @property
+    def rows(self):
+        """The pairs of a kind and how many ahead wish it."""
+        return self._rows
 
     def bar(self, lot):
         """How many ahead, at most, wish one of these kinds of the wishes."""
@@ -227,6 +237,12 @@ def check_standing(standing):
     """Raises NotAStanding if this is no standing."""
     if not isinstance(standing, Standing):
         raise NotAStanding(standing)
+
+
+def check_kind(standing, kind):
+    """Raises Unwished if this is no kind of the wishes of the standing."""
+    if not is_name(kind) or kind not in standing.wishes:
+        raise Unwished(kind)
 
 
 def check_wished(lot, wishes):
