@@ -6,6 +6,7 @@ from offerlists.basics import is_lot, wrong_pair
 from offerlists.houses import House
 
 MOST_PROMISED_DAYS = 99
+MOST_CLAIMED_DAYS = 99
 
 
 def check_house(house):
@@ -18,6 +19,11 @@ def check_lot(lot):
     """Raises InvalidLot if this is no lot."""
     if not is_lot(lot):
         raise InvalidLot(lot)
+
+
+def is_places(value):
+    """Whether a value are places."""
+    return isinstance(value, tuple) and wrong_of_a_few(value, MOST_NUMBER) is None
 
 
 def check_places(places):
